@@ -1,0 +1,1 @@
+"""Webs round a wheel, and when two are alike."""
