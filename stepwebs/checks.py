@@ -1,6 +1,6 @@
-"""What makes a value a number, a web, a net or an order of halls."""
+"""What makes a value a number, a prime, a web, a net or an order of halls."""
 
-from stepwebs.errors import BadNet, BadNumber, BadWeb
+from stepwebs.errors import BadNet, BadNumber, BadWeb, NotPrime
 
 MOST_HALLS = 13
 
@@ -17,6 +17,17 @@ def check_number(value, low, high):
         raise BadNumber(f"no integer from {low} to {high}")
 
 
+def check_prime(number):
+    """Raise NotPrime unless an integer from 2 on is a prime."""
+    if any([number % divisor == 0 for divisor in range(2, number)]):
+        raise NotPrime("no prime")
+
+
+def is_pair(value):
+    """Whether a value is a tuple of two values."""
+    return isinstance(value, tuple) and len(value) == 2
+
+
 def is_order(value, halls):
     """Whether a value is a tuple of all halls, each of them once."""
     if not isinstance(value, tuple) or len(value) != halls:
@@ -27,7 +38,7 @@ def is_order(value, halls):
 
 def wrong_in_web(value):
     """The word for the first thing that is wrong with a web, "" for none."""
-    if not _is_pair(value):
+    if not is_pair(value):
         return "whole"
     halls, steps = value
     if not is_number(halls, 2, MOST_HALLS):
@@ -46,7 +57,7 @@ def check_web(value):
 
 def wrong_in_net(value):
     """The word for the first thing that is wrong with a net, "" for none."""
-    if not _is_pair(value):
+    if not is_pair(value):
         return "whole"
     halls, ways = value
     if not is_number(halls, 1, MOST_HALLS):
@@ -63,10 +74,6 @@ def check_net(value):
         raise BadNet(wrong)
 
 
-def _is_pair(value):
-    return isinstance(value, tuple) and len(value) == 2
-
-
 def _are_steps(value, halls):
     if not isinstance(value, tuple) or not all([is_number(step, 1, halls - 1) for step in value]):
         return False
@@ -80,7 +87,7 @@ def _are_ways(value, halls):
 
 
 def _is_way(value, halls):
-    if not _is_pair(value):
+    if not is_pair(value):
         return False
     start, end = value
     return is_number(start, 0, halls - 1) and is_number(end, 0, halls - 1) and start != end

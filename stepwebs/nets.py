@@ -19,8 +19,8 @@ def net_of(web):
 def likeness(one, other):
     """The halls to which 0, 1, .. are led by a likeness of two nets, None without any."""
     _check_two(one, other)
-    here = _table(one)
-    there = _table(other)
+    here = join_table(one)
+    there = join_table(other)
     places = _places(here, there, _first_rooms(here, there))
     if places is None:
         return None
@@ -43,7 +43,7 @@ def shows_likeness(one, other, value):
 def count_symmetries(net):
     """How many symmetries a net has."""
     check_net(net)
-    table = _table(net)
+    table = join_table(net)
     rooms = _first_rooms(table, table)
     many = 1
     # The symmetries that keep some halls are as many as those that keep one more,
@@ -57,24 +57,12 @@ def count_symmetries(net):
 def is_even(net):
     """Whether the symmetries of a net lead each hall to each."""
     check_net(net)
-    table = _table(net)
+    table = join_table(net)
     # If they lead the hall 0 to each, then by way of 0 they lead each to each.
     return _count_reached(table, _first_rooms(table, table), 0) == net[0]
 
 
-def _check_two(one, other):
-    check_net(one)
-    check_net(other)
-    if one[0] != other[0]:
-        raise Unlike("unlike numbers of halls")
-
-
-def _led(net, order):
-    """The net to which an order of the halls leads a net."""
-    return net[0], tuple(sorted([(order[start], order[end]) for start, end in net[1]]))
-
-
-def _table(net):
+def join_table(net):
     """For each two halls how they are joined: 1 a way there, 2 a way back, 3 both, 0 none.
 
     A hall and itself have 4, which no two halls have: so no two halls get one place.
@@ -87,6 +75,18 @@ def _table(net):
     for hall in range(halls):
         table[hall][hall] = 4
     return table
+
+
+def _check_two(one, other):
+    check_net(one)
+    check_net(other)
+    if one[0] != other[0]:
+        raise Unlike("unlike numbers of halls")
+
+
+def _led(net, order):
+    """The net to which an order of the halls leads a net."""
+    return net[0], tuple(sorted([(order[start], order[end]) for start, end in net[1]]))
 
 
 def _first_rooms(here, there):

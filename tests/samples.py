@@ -148,6 +148,39 @@ GOOD_NETS = [
     (13, tuple(permutations(range(13), 2))),
 ]
 
+# Values that are no order of the halls 0, 1 and 2.
+NO_ORDERS_OF_THREE = [
+    (0, 1),
+    (0, 1, 2, 3),
+    (0, 1, 2, 0),
+    (0, 1, 1),
+    (0, 0, 0),
+    (0, 1, 3),
+    (1, 2, 3),
+    (-1, 0, 1),
+    [0, 1, 2],
+    [2, 1, 0],
+    {0: 0, 1: 1, 2: 2},
+    "012",
+    ("0", "1", "2"),
+    (0, True, 2),
+    (False, 1, 2),
+    (0, 1, None),
+    (0, 1, "2"),
+    (0, 1, (2,)),
+    (0, 1, [2]),
+    (0, 1, {}),
+    ((0, 1, 2),),
+    (((0, 1, 2),),),
+    ((0, 1, 2), (0, 1, 2)),
+    ((0,), (1,), (2,)),
+    ([0], [1], [2]),
+    (0, 1, -1),
+    (False, True, 2),
+    ((0, 1, 2), None),
+    10**40,
+]
+
 # Of each kind of value some, for arguments that may be anything.
 ANY_VALUES = [
     None,
@@ -242,3 +275,9 @@ def circles(*sizes):
         edges += [(first + at, first + (at + 1) % size) for at in range(size)]
         first += size
     return edges
+
+
+PETERSEN = two_way_net(
+    10,
+    circles(5) + [(5 + at, 5 + (at + 2) % 5) for at in range(5)] + [(at, at + 5) for at in range(5)],
+)

@@ -5,7 +5,7 @@ import copy
 import unittest
 from pathlib import Path
 
-from stepwebs import nets, webs
+from stepwebs import maps, nets, oddpairs, rings, webs
 from tests.samples import ANY_VALUES, BAD_NETS, BAD_WEBS, GOOD_NETS, GOOD_WEBS, outcome
 
 FOLDER = Path(webs.__file__).parent
@@ -16,6 +16,9 @@ INTERFACE = {
     ),
     "webs": "is_web are_multiples is_two_way ways factors multiples times least_multiple turned".split(),
     "nets": "is_net are_alike shows_likeness is_even net_of likeness count_symmetries".split(),
+    "rings": "ring steps_along shows_ring".split(),
+    "oddpairs": "odd_pair shows_odd_pair".split(),
+    "maps": "keepers count_plain symmetries is_plain".split(),
 }
 
 ONE_ARGUMENT = [
@@ -30,8 +33,25 @@ ONE_ARGUMENT = [
     nets.net_of,
     nets.count_symmetries,
     nets.is_even,
+    rings.ring,
+    oddpairs.odd_pair,
+    maps.keepers,
+    maps.count_plain,
+    maps.is_plain,
+    maps.symmetries,
 ]
-TWO_ARGUMENTS = [webs.times, webs.are_multiples, nets.likeness, nets.are_alike]
+TWO_ARGUMENTS = [
+    webs.times,
+    webs.are_multiples,
+    nets.likeness,
+    nets.are_alike,
+    rings.steps_along,
+    rings.shows_ring,
+    oddpairs.shows_odd_pair,
+]
+# They may answer with any such value.
+UNPROMISED = [nets.likeness, rings.ring, oddpairs.odd_pair]
+ERRORS = ("BadWeb", "BadNet", "BadNumber", "NotPrime", "Unlike")
 
 VALUES = (
     ANY_VALUES
@@ -67,11 +87,11 @@ class AnyValuesTest(unittest.TestCase):
             answer = outcome(function, *args)
             self.assertEqual(args, before)
             self.assertEqual(repr(args), kept)
-            self.assertIn(answer[0], ("value", "BadWeb", "BadNet", "BadNumber", "Unlike"))
+            self.assertIn(answer[0], ("value", *ERRORS))
 
     def test_equal_arguments_have_equal_answers(self):
         for function, args in calls():
-            if function not in (nets.likeness, nets.shows_likeness):
+            if function not in UNPROMISED:
                 self.assertEqual(outcome(function, *args), outcome(function, *copy.deepcopy(args)))
 
     def test_shows_gives_true_or_false(self):
@@ -79,6 +99,11 @@ class AnyValuesTest(unittest.TestCase):
             for value in VALUES:
                 self.assertIn(outcome(nets.shows_likeness, one, other, value), (("value", True), ("value", False)))
                 self.assertIs(type(nets.shows_likeness(one, other, value)), bool)
+        for value in VALUES:
+            for net in GOOD_NETS:
+                self.assertIs(type(rings.shows_ring(net, value)), bool)
+            for halls in range(2, 10):
+                self.assertIs(type(oddpairs.shows_odd_pair(halls, value)), bool)
 
     def test_exact_for_great_numbers(self):
         for great in (10**100, -(10**100), 2**64 + 5):
@@ -86,6 +111,8 @@ class AnyValuesTest(unittest.TestCase):
             self.assertEqual(outcome(webs.times, (5, (1,)), great)[0], "BadNumber")
             self.assertIs(webs.is_web((5, (great,))), False)
             self.assertIs(nets.is_net((great, ())), False)
+            self.assertEqual(outcome(oddpairs.odd_pair, great)[0], "BadNumber")
+            self.assertIsNone(rings.steps_along((1, ()), (great,)))
 
     def test_true_and_false_are_no_integers(self):
         self.assertEqual(outcome(webs.factors, True)[0], "BadNumber")
@@ -94,6 +121,12 @@ class AnyValuesTest(unittest.TestCase):
         self.assertEqual(outcome(nets.is_even, (True, ())), ("BadNet", {"part": "halls"}))
         self.assertEqual(outcome(nets.is_even, (2, ((False, True),))), ("BadNet", {"part": "ways"}))
         self.assertIs(nets.shows_likeness((2, ()), (2, ()), (False, True)), False)
+        self.assertIs(rings.shows_ring((2, ()), (False, True)), False)
+        self.assertIsNone(rings.steps_along((2, ()), (False, True)))
+        self.assertEqual(outcome(oddpairs.odd_pair, True), ("BadNumber", {}))
+        self.assertIs(oddpairs.shows_odd_pair(8, ((8, (True, 2, 5)), (8, (1, 5, 6)))), False)
+        self.assertEqual(outcome(maps.keepers, (True, ())), ("BadWeb", {"part": "halls"}))
+        self.assertEqual(outcome(maps.symmetries, (4, (True,))), ("BadWeb", {"part": "steps"}))
 
 
 class FormTest(unittest.TestCase):
@@ -113,12 +146,12 @@ class FormTest(unittest.TestCase):
                 self.assertEqual(defined.count(name), 1, name)
 
     def test_imports(self):
-        # No clock, no randomness, no files: nothing but the package itself and whole numbers.
+        # No clock, no randomness, no files: nothing but the package itself, whole numbers and choices.
         for path, text, tree in self.trees():
             for node in ast.walk(tree):
                 self.assertNotIsInstance(node, ast.Import)
                 if isinstance(node, ast.ImportFrom):
-                    allowed = node.module == "math" or node.module.startswith("stepwebs.")
+                    allowed = node.module in ("math", "itertools") or node.module.startswith("stepwebs.")
                     self.assertTrue(allowed and node.level == 0, node.module)
 
     def test_no_files_and_no_floats(self):
