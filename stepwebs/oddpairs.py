@@ -3,8 +3,9 @@
 from itertools import combinations
 
 from stepwebs.checks import check_number, is_pair
+from stepwebs.counts import least_webs
 from stepwebs.nets import are_alike, net_of
-from stepwebs.webs import are_multiples, is_web, least_multiple
+from stepwebs.webs import are_multiples, is_web
 
 MOST_HALLS_OF_PAIRS = 10
 
@@ -12,9 +13,11 @@ MOST_HALLS_OF_PAIRS = 10
 def odd_pair(halls):
     """Two webs of so many halls that are alike and no multiples, None without any."""
     check_number(halls, 2, MOST_HALLS_OF_PAIRS)
-    # Alike webs have as many steps, and what is alike to a web is alike to its multiples.
+    # What is alike to a web is alike to its multiples.
+    least = least_webs(halls)
     for many in range(halls):
-        webs = _least_webs(halls, many)
+        # Alike webs have as many steps.
+        webs = [web for web in least if len(web[1]) == many]
         for one, other in combinations(webs, 2):
             if are_alike(net_of(one), net_of(other)):
                 return one, other
@@ -27,12 +30,6 @@ def shows_odd_pair(halls, value):
     if value is None:
         return odd_pair(halls) is None
     return _are_webs_of(value, halls) and _are_odd(value)
-
-
-def _least_webs(halls, many):
-    """The webs of so many halls and steps that are the least of their multiples."""
-    webs = [(halls, steps) for steps in combinations(range(1, halls), many)]
-    return [web for web in webs if least_multiple(web) == web]
 
 
 def _are_webs_of(value, halls):

@@ -5,7 +5,7 @@ import copy
 import unittest
 from pathlib import Path
 
-from stepwebs import maps, nets, oddpairs, rings, webs
+from stepwebs import counts, maps, nets, oddpairs, rings, webs, webtexts, wheels
 from tests.samples import ANY_VALUES, BAD_NETS, BAD_WEBS, GOOD_NETS, GOOD_WEBS, outcome
 
 FOLDER = Path(webs.__file__).parent
@@ -18,7 +18,10 @@ INTERFACE = {
     "nets": "is_net are_alike shows_likeness is_even net_of likeness count_symmetries".split(),
     "rings": "ring steps_along shows_ring".split(),
     "oddpairs": "odd_pair shows_odd_pair".split(),
+    "counts": "count_webs count_with count_two_way least_webs".split(),
     "maps": "keepers count_plain symmetries is_plain".split(),
+    "wheels": ["Wheel"],
+    "webtexts": "write_web read_web".split(),
 }
 
 ONE_ARGUMENT = [
@@ -35,10 +38,15 @@ ONE_ARGUMENT = [
     nets.is_even,
     rings.ring,
     oddpairs.odd_pair,
+    counts.count_webs,
+    counts.count_two_way,
+    counts.least_webs,
     maps.keepers,
     maps.count_plain,
     maps.is_plain,
     maps.symmetries,
+    webtexts.write_web,
+    webtexts.read_web,
 ]
 TWO_ARGUMENTS = [
     webs.times,
@@ -48,10 +56,11 @@ TWO_ARGUMENTS = [
     rings.steps_along,
     rings.shows_ring,
     oddpairs.shows_odd_pair,
+    counts.count_with,
 ]
 # They may answer with any such value.
 UNPROMISED = [nets.likeness, rings.ring, oddpairs.odd_pair]
-ERRORS = ("BadWeb", "BadNet", "BadNumber", "NotPrime", "Unlike")
+ERRORS = ("BadWeb", "BadNet", "BadNumber", "NotPrime", "Unlike", "BadStep", "NoStep", "BadText", "BadLine")
 
 VALUES = (
     ANY_VALUES
@@ -59,6 +68,7 @@ VALUES = (
     + [value for value, part in BAD_NETS]
     + GOOD_WEBS
     + GOOD_NETS
+    + ["halls 5\nsteps 1 4", "halls 5\nsteps 4 1"]
 )
 FEWER_VALUES = ANY_VALUES + VALUES[24::7] + GOOD_WEBS[:5] + GOOD_NETS[:6]
 
@@ -94,6 +104,19 @@ class AnyValuesTest(unittest.TestCase):
             if function not in UNPROMISED:
                 self.assertEqual(outcome(function, *args), outcome(function, *copy.deepcopy(args)))
 
+    def test_wheel_modifies_nothing(self):
+        for value in VALUES:
+            kept = copy.deepcopy(value)
+            name, wheel = outcome(wheels.Wheel, value)
+            self.assertIn(name, ("value", "BadWeb"))
+            if name == "value":
+                for step in VALUES:
+                    before = copy.deepcopy(step)
+                    self.assertIn(outcome(wheel.go, step)[0], ("value", "BadStep"))
+                    self.assertEqual(repr(step), repr(before))
+                self.assertTrue(all(type(step) is int for step in wheel.steps))
+            self.assertEqual(repr(value), repr(kept))
+
     def test_shows_gives_true_or_false(self):
         for one, other in (((3, ()), (3, ((0, 1),))), ((2, ()), (2, ())), ((1, ()), (1, ()))):
             for value in VALUES:
@@ -113,6 +136,10 @@ class AnyValuesTest(unittest.TestCase):
             self.assertIs(nets.is_net((great, ())), False)
             self.assertEqual(outcome(oddpairs.odd_pair, great)[0], "BadNumber")
             self.assertIsNone(rings.steps_along((1, ()), (great,)))
+            self.assertEqual(outcome(counts.count_webs, great), ("BadNumber", {}))
+            self.assertEqual(outcome(counts.count_with, 61, great), ("BadNumber", {}))
+            self.assertEqual(outcome(wheels.Wheel((5, (1,))).go, great), ("BadStep", {}))
+            self.assertEqual(outcome(webtexts.read_web, f"halls {great}"), ("BadLine", {"line": 1, "word": 2}))
 
     def test_true_and_false_are_no_integers(self):
         self.assertEqual(outcome(webs.factors, True)[0], "BadNumber")
@@ -127,6 +154,10 @@ class AnyValuesTest(unittest.TestCase):
         self.assertIs(oddpairs.shows_odd_pair(8, ((8, (True, 2, 5)), (8, (1, 5, 6)))), False)
         self.assertEqual(outcome(maps.keepers, (True, ())), ("BadWeb", {"part": "halls"}))
         self.assertEqual(outcome(maps.symmetries, (4, (True,))), ("BadWeb", {"part": "steps"}))
+        self.assertEqual(outcome(counts.least_webs, True), ("BadNumber", {}))
+        self.assertEqual(outcome(counts.count_with, 5, False), ("BadNumber", {}))
+        self.assertEqual(outcome(wheels.Wheel((5, (1,))).go, True), ("BadStep", {}))
+        self.assertEqual(outcome(webtexts.write_web, (5, (True,))), ("BadWeb", {"part": "steps"}))
 
 
 class FormTest(unittest.TestCase):
